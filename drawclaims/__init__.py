@@ -1,0 +1,1 @@
+"""Drawclaims: what a few rows show of tables of every size."""
