@@ -13,6 +13,15 @@ def is_integer_within(value, least, most):
     return is_integer(value) and least <= value <= most
 
 
+def first_not_ascending(items, least, most):
+    """The first index of an item that is no integer in this range or not greater than the one before, or None."""
+    for at, item in enumerate(items):
+        if not is_integer_within(item, least, most):
+            return at
+        least = item + 1
+    return None
+
+
 def is_name(value):
     """Whether a value is a name: one to eight letters from a to z, other than self."""
     if not isinstance(value, str) or len(value) > _LONGEST_NAME:

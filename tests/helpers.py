@@ -32,7 +32,9 @@ def same(left, right):
 
 class ProgramTest(unittest.TestCase):
     def assert_same(self, found, wanted):
-        self.assertTrue(same(found, wanted), f"{found!r} is not {wanted!r}")
+        # The message is made only here: Python refuses the text of the longest integers that are compared.
+        if not same(found, wanted):
+            self.fail(f"{found!r} is not {wanted!r}")
 
     def assert_error(self, wanted, fields, call, *args, **more):
         """The call raises an error of just this class, with just these fields."""
