@@ -1,9 +1,10 @@
 """Checks of arguments that many functions have."""
 
-from drawclaims.errors import InvalidMarked, InvalidNumber, InvalidSize, NotAPlan
+from drawclaims.errors import InvalidMarked, InvalidNumber, InvalidShare, InvalidSize, NotAPlan
 from drawclaims.kinds import is_integer_within
-from drawclaims.limits import SIZE
+from drawclaims.limits import BOTTOM, FROM, SIZE
 from drawclaims.plans import Plan
+from drawclaims.ratios import is_share
 
 
 def check_plan(plan):
@@ -28,3 +29,21 @@ def check_marked(size, marked):
     """Raises InvalidMarked if a value is not a number of marked rows of a table of this size."""
     if not is_integer_within(marked, 0, size):
         raise InvalidMarked(marked)
+
+
+def check_share(share):
+    """Raises InvalidShare if a value is not a share."""
+    if not is_share(share):
+        raise InvalidShare(share)
+
+
+def check_from_size(from_size):
+    """Raises InvalidSize if a value is not a size from which on tables may be asked for."""
+    if not is_integer_within(from_size, 1, FROM):
+        raise InvalidSize(from_size)
+
+
+def check_bottom(bottom):
+    """Raises InvalidNumber if a value is not a bottom of claims."""
+    if not is_integer_within(bottom, 1, BOTTOM):
+        raise InvalidNumber(bottom)

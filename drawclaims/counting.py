@@ -38,7 +38,9 @@ def up_to(plan, number, size, marked):
     """The number of the draws of a class up to this one."""
     check_plan(plan)
     check_number(plan, number)
-    return sum(class_counts(plan, size, marked)[:number + 1])
+    check_size(plan, size)
+    check_marked(size, marked)
+    return count_up_to(plan, number, size, marked)
 
 
 def mean_looked(plan, size, marked):
@@ -65,6 +67,12 @@ def stop_counts(plan, size, marked):
     other_ways = fallings(size - marked, plan.longest)
     rest_ways = _rest_ways(size, plan.longest)
     return [ways * marked_ways[k] * other_ways[m - k] * rest_ways[m] for m, k, _, ways in plan.stops]
+
+
+def count_up_to(plan, number, size, marked):
+    """The number of the draws of a class up to this one, for arguments that are right."""
+    counts = stop_counts(plan, size, marked)
+    return sum([count for stop, count in zip(plan.stops, counts) if stop[2] <= number])
 
 
 def _rest_ways(size, longest):

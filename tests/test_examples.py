@@ -57,6 +57,32 @@ raises NotRising(marks=(1, 0), place=1)
 [20, (6, 14), '8/5', 1999999998]
 """,
     ),
+    "series": (
+        """
+>>> from drawclaims.series import ladder_of, runs_of, value_at
+>>> [value_at((4, 0, -2), 10), runs_of((4, 0, -2)), ladder_of((4, 0, -2)), ladder_of((0, 0)), runs_of((-3, -3, -3))]
+[54, ((0, 1), (2, -1), (4, 1)), (((0, 1),), ((0, -1), (2, 1)), ((0, 1), (2, -1), (4, 1))), (((0, 1),),), ((0, -1),)]
+""",
+    ),
+    "sizes": (
+        """
+>>> from drawclaims.sizes import Sizes
+>>> some = Sizes.rests(2, 0) & Sizes.span(3, 9) | Sizes.span(20)
+>>> [some.modulus, some.ranges, some.whole_from, 8 in some, 9 in some, some.after(9), list(some.members(5, 3)), some - Sizes.rests(2, 1) <= Sizes.rests(2, 0)]
+[2, (((4, 8), (20, None)), ((21, None),)), 20, True, False, 20, [6, 8, 20], True]
+""",
+    ),
+    "holding": (
+        """
+>>> from drawclaims.claims import Claims
+>>> from drawclaims.holding import failing, holds_always, sizes_where, worst
+>>> from drawclaims.plans import Plan
+>>> from drawclaims.ratios import Ratio
+>>> half = Claims(Plan.fixed(2, 0), 2, (1, 0))
+>>> [half.bound(0, 7), half.wrong(7, 4), str(worst(half, 7)[0]), worst(half, 7)[1], sizes_where(half, Ratio(1, 5)).ranges, failing(half, Ratio(1, 5)), holds_always(half, Ratio(1, 4))]
+[3, 6, '1/7', 4, (((2, 24),), ((3, 15),)), (17, 9), True]
+""",
+    ),
 }
 
 
@@ -70,4 +96,5 @@ class ExamplesTest(unittest.TestCase):
 
     def test_number_of_examples(self):
         self.assertEqual({module: len(texts) for module, texts in EXAMPLES.items()},
-                         {"ratios": 1, "lines": 1, "plans": 3, "comparing": 1, "counting": 1})
+                         {"ratios": 1, "lines": 1, "plans": 3, "comparing": 1, "counting": 1,
+                          "series": 1, "sizes": 1, "holding": 1})
