@@ -6,6 +6,8 @@ from drawclaims.limits import BOTTOM, FROM, SIZE
 from drawclaims.plans import Plan
 from drawclaims.ratios import is_share
 
+_MOST_KEY = 10 ** 9
+
 
 def check_plan(plan):
     """Raises NotAPlan if a value is not a plan."""
@@ -47,3 +49,15 @@ def check_bottom(bottom):
     """Raises InvalidNumber if a value is not a bottom of claims."""
     if not is_integer_within(bottom, 1, BOTTOM):
         raise InvalidNumber(bottom)
+
+
+def check_key(key):
+    """Raises InvalidNumber if a value is not a key."""
+    if not is_integer_within(key, 0, _MOST_KEY):
+        raise InvalidNumber(key)
+
+
+def check_mark(marked):
+    """Raises InvalidMarked if a value is not True or False."""
+    if not isinstance(marked, bool):
+        raise InvalidMarked(marked)

@@ -44,6 +44,22 @@ class Strand:
             for place in range(t, t + self.plan.longest + 1)
         ])
 
+    def steps_from(self, t):
+        """From t on, values with the signs of the steps of the share of the wrong draws from each size to the next.
+
+        The wrong draws are polynomials of a degree up to the longest look. All draws at the two sizes have the
+        factors in common that stand in both products; the other ones are as many as the smaller of the look and the
+        bottom. The greatest power goes out, so as many values as these degrees tell the polynomial.
+        """
+        longest = self.plan.longest
+        many = min(int(longest), self.bottom)
+        wrong = [self.wrong_of(place) for place in range(t, t + longest + many + 1)]
+        sizes = [self.size_of(place) for place in range(t, t + longest + many)]
+        return [
+            after * fallings(size - longest + many, many)[-1] - before * fallings(size + self.bottom, many)[-1]
+            for before, after, size in zip(wrong, wrong[1:], sizes)
+        ]
+
 
 def strands_of(plan, number, bottom, line, start):
     """The strands of a class, for each rest."""

@@ -83,6 +83,54 @@ raises NotRising(marks=(1, 0), place=1)
 [3, 6, '1/7', 4, (((2, 24),), ((3, 15),)), (17, 9), True]
 """,
     ),
+    "greatest": (
+        """
+>>> from drawclaims.claims import Claims
+>>> from drawclaims.greatest import greatest_share, limit_share
+>>> from drawclaims.plans import Plan
+>>> half, certain = Claims(Plan.fixed(2, 0), 2, (1, 0)), Claims(Plan.fixed(2, 0, 1), 1, (1, -2), (1, -1))
+>>> [str(limit_share(half, 0)), repr(greatest_share(half)), repr(greatest_share(certain)), repr(greatest_share(Claims(Plan.fixed(1, 0), 1, (0, 1))))]
+['1/4', '(Ratio(1, 4), None, None)', '(Ratio(0, 1), 2, 0)', '(Ratio(1, 1), None, None)']
+""",
+    ),
+    "least": (
+        """
+>>> from drawclaims.least import least_bounds, least_look, least_offsets, least_slopes, next_look
+>>> from drawclaims.plans import Plan
+>>> from drawclaims.ratios import Ratio
+>>> plan, fifth = Plan.fixed(2, 0), Ratio(1, 5)
+>>> [least_bounds(plan, fifth, 10), least_slopes(plan, fifth, 10), least_offsets(plan, fifth, 10, 6), least_look(fifth, 2, 1), next_look(Ratio(1, 3), 2, 1, (2, 0), allowed=1)]
+[(5,), (6,), (-8,), 3, 5]
+""",
+    ),
+    "ranges": (
+        """
+>>> from drawclaims.claims import Claims
+>>> from drawclaims.plans import Plan
+>>> from drawclaims.ranges import TwoSided
+>>> plan = Plan.fixed(2, 0)
+>>> two = TwoSided(Claims(plan, 2, (1, 0)), Claims(plan.flipped(), 2, (1, 0)))
+>>> [str(plan.flipped()), two.interval(0, 10), two.interval(1, 10), str(two.wrong_share(5, 3)), str(two.most_share())]
+['- -- 001', (0, 5), (5, 10), '1/10', '1']
+""",
+    ),
+    "tables": (
+        """
+>>> from drawclaims.plans import Plan
+>>> from drawclaims.tables import Table, Watch
+>>> table = Table()
+>>> table.put(7, 30, marked=True)
+>>> table.put(8, 10)
+>>> table.put(9, 20, False)
+>>> watch = Watch(table, Plan.fixed(2, 0))
+>>> first = watch.run()
+>>> table.change(9, True)
+>>> second, reads = watch.run(), watch.reads
+>>> table.drop(8)
+>>> [list(table.order()), first, second, reads, watch.known(), watch.run(), watch.reads, table.marked]
+[[9, 7], (0, 2), (1, 2), 3, ((9, True),), (1, 2), 4, 2]
+""",
+    ),
 }
 
 
@@ -97,4 +145,4 @@ class ExamplesTest(unittest.TestCase):
     def test_number_of_examples(self):
         self.assertEqual({module: len(texts) for module, texts in EXAMPLES.items()},
                          {"ratios": 1, "lines": 1, "plans": 3, "comparing": 1, "counting": 1,
-                          "series": 1, "sizes": 1, "holding": 1})
+                          "series": 1, "sizes": 1, "holding": 1, "greatest": 1, "least": 1, "ranges": 1, "tables": 1})
