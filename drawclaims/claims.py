@@ -1,6 +1,6 @@
 """Claims: a plan, and for each class a bound for the marked rows that depends on the size of the table."""
 
-from drawclaims.checks import check_bottom, check_marked, check_number, check_plan, check_size
+from drawclaims.checks import check_bottom, check_number, check_plan, check_size
 from drawclaims.counting import class_counts, draws
 from drawclaims.errors import InvalidLines, InvalidName, NotClaims
 from drawclaims.kinds import is_integer_within, is_name
@@ -41,8 +41,6 @@ class Claims:
 
     def wrong(self, size, marked):
         """The number of wrong draws."""
-        check_size(self.plan, size)
-        check_marked(size, marked)
         counts = class_counts(self.plan, size, marked)
         return sum([count for number, count in enumerate(counts) if _bound_of(self, number, size) < marked])
 

@@ -29,7 +29,7 @@ def class_counts(plan, size, marked):
     check_size(plan, size)
     check_marked(size, marked)
     counts = [0] * plan.classes
-    for stop, count in zip(plan.stops, stop_counts(plan, size, marked)):
+    for stop, count in zip(plan.stops, _stop_counts(plan, plan.stops, size, marked)):
         counts[stop[2]] += count
     return tuple(counts)
 
@@ -48,7 +48,7 @@ def mean_looked(plan, size, marked):
     check_plan(plan)
     check_size(plan, size)
     check_marked(size, marked)
-    counts = stop_counts(plan, size, marked)
+    counts = _stop_counts(plan, plan.stops, size, marked)
     looked = sum([stop[0] * count for stop, count in zip(plan.stops, counts)])
     return Ratio(looked, draws(plan, size))
 
@@ -61,18 +61,18 @@ def fallings(top, most):
     return values
 
 
-def stop_counts(plan, size, marked):
-    """For each stop of the plan, the number of the draws that get there."""
+def count_up_to(plan, number, size, marked):
+    """The number of the draws of a class up to this one, for arguments that are right."""
+    stops = [stop for stop in plan.stops if stop[2] <= number]
+    return sum(_stop_counts(plan, stops, size, marked))
+
+
+def _stop_counts(plan, stops, size, marked):
+    """For each of these stops of the plan, the number of the draws that get there."""
     marked_ways = fallings(marked, plan.longest)
     other_ways = fallings(size - marked, plan.longest)
     rest_ways = _rest_ways(size, plan.longest)
-    return [ways * marked_ways[k] * other_ways[m - k] * rest_ways[m] for m, k, _, ways in plan.stops]
-
-
-def count_up_to(plan, number, size, marked):
-    """The number of the draws of a class up to this one, for arguments that are right."""
-    counts = stop_counts(plan, size, marked)
-    return sum([count for stop, count in zip(plan.stops, counts) if stop[2] <= number])
+    return [ways * marked_ways[k] * other_ways[m - k] * rest_ways[m] for m, k, _, ways in stops]
 
 
 def _rest_ways(size, longest):

@@ -80,8 +80,9 @@ def _greatest_of(claims, strands):
         return Ratio(1)
     share = Ratio(0)
     for number in range(claims.plan.classes - 1):
+        # Of a class that is never wrong at great sizes the limit is 0.
         limit = limit_share(claims, number)
-        if limit > share and any([strand.number == number for strand in strands]):
+        if limit > share:
             share = limit
     # No limit is greater now, so a strand with a greater share has its greatest one at a size.
     for strand in strands:
@@ -91,7 +92,7 @@ def _greatest_of(claims, strands):
 
 
 def _is_always_wrong(strand):
-    """Whether the bound is below 0 at first: then all draws from tables without a marked row are wrong."""
+    """Whether the bound is below -1 at first: then all draws from tables without a marked row are wrong."""
     return strand.sound != strand.below
 
 
@@ -108,12 +109,12 @@ def _first_below_zero(t, series):
 
 
 def _greatest_peak(strand):
-    """The greatest share of the wrong draws, where it is not that far out: it is one from which the shares fall."""
+    """The greatest share of the wrong draws, if it is greater than the limit: the first one, or one at a turn."""
     share = Ratio(0)
-    for start, sign in ladder_from(heads_of(strand.steps_from(strand.below)))[-1]:
+    for start, _ in ladder_from(heads_of(strand.steps_from(strand.below)))[-1]:
         t = strand.below + start
         found = Ratio(strand.wrong_of(t), strand.all_of(t))
-        if sign < 0 and found > share:
+        if found > share:
             share = found
     return share
 

@@ -44,7 +44,7 @@ def _weighted(heads):
     weight = 1
     for order in range(len(heads) - 1, -1, -1):
         weighted.append(heads[order] * weight)
-        weight *= max(1, order)
+        weight *= order
     return weighted[::-1]
 
 

@@ -36,7 +36,8 @@ class Sizes:
         at = first_not_ascending(rests, 0, modulus - 1)
         if at is not None:
             raise InvalidLimits(at)
-        return Sizes(modulus, [[rest] if rest in rests else [] for rest in range(modulus)])
+        known = set(rests)
+        return Sizes(modulus, [[rest] if rest in known else [] for rest in range(modulus)])
 
     def after(self, first):
         """The least member from this integer on, None if there is none."""
@@ -49,14 +50,14 @@ class Sizes:
         _check_from_zero(first)
         if not is_integer_within(many, 0, _MOST_MEMBERS):
             raise InvalidNumber(many)
-        start = self.after(first) if many > 0 else None
-        while start is not None:
+        start = self.after(first)
+        while many > 0 and start is not None:
             stop = start + self.modulus
             found = [place for place in self._nexts(start) if place is not None and place < stop]
             for member in sorted([int(place) for place in found])[:many]:
                 yield member
             many -= len(found)
-            start = self.after(stop) if many > 0 else None
+            start = self.after(stop)
 
     def turns_with(self, modulus, rest):
         """The turns of the members with a rest by a multiple of the modulus."""
@@ -93,7 +94,7 @@ class Sizes:
         return isinstance(other, Sizes) and _have_same_members(self, other)
 
     def __contains__(self, x):
-        return is_integer(x) and x >= 0 and is_inside(self._turns[x % self.modulus], x)
+        return is_integer(x) and is_inside(self._turns[x % self.modulus], x)
 
     def __bool__(self):
         return any([bool(places) for places in self._turns])
@@ -114,7 +115,7 @@ def _whole_from(turns, modulus):
     """The least integer from which on all are members: next to the last one that is none; None without an end."""
     if not all([len(places) % 2 == 1 for places in turns]):
         return None
-    return max(0, max([int(places[-1] - modulus + 1) for places in turns]))
+    return max([int(places[-1] - modulus + 1) for places in turns])
 
 
 def _joined(left, right, keeps):

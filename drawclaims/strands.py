@@ -7,7 +7,7 @@ class Strand:
     """The sizes bottom * t + rest for t from 0 on, with the bound of one class at them.
 
     first is the least t whose size is at least the start. From below on the bound is below the size, and from sound
-    on it is at least 0, too; each of the two is at least first, and None if there is no such t.
+    on it is at least -1, too; each of the two is at least first, and None if there is no such t.
     """
 
     def __init__(self, plan, number, bottom, line, rest, start):
@@ -17,7 +17,8 @@ class Strand:
         self.slope = line[0]
         self.rest = rest
         self.base = (line[0] * rest + line[1]) // bottom
-        self.first = max(0, -((rest - start) // bottom))
+        # Not below 0, since the rest is less than the bottom.
+        self.first = -((rest - start) // bottom)
         self.below = _least_below(self)
         self.sound = _least_sound(self)
 
@@ -47,14 +48,15 @@ class Strand:
     def steps_from(self, t):
         """From t on, values with the signs of the steps of the share of the wrong draws from each size to the next.
 
-        The wrong draws are polynomials of a degree up to the longest look. All draws at the two sizes have the
-        factors in common that stand in both products; the other ones are as many as the smaller of the look and the
-        bottom. The greatest power goes out, so as many values as these degrees tell the polynomial.
+        All draws at two such sizes are products with common factors, which the signs do not need; the other factors
+        are as many as the smaller of the longest look and the bottom. The wrong draws are polynomials of a degree up
+        to the look. The share comes near to a limit, so its steps become less like 1 / t ** 2: of the polynomial of
+        the steps the two greatest powers go out.
         """
         longest = self.plan.longest
         many = min(int(longest), self.bottom)
-        wrong = [self.wrong_of(place) for place in range(t, t + longest + many + 1)]
-        sizes = [self.size_of(place) for place in range(t, t + longest + many)]
+        wrong = [self.wrong_of(place) for place in range(t, t + longest + many)]
+        sizes = [self.size_of(place) for place in range(t, t + longest + many - 1)]
         return [
             after * fallings(size - longest + many, many)[-1] - before * fallings(size + self.bottom, many)[-1]
             for before, after, size in zip(wrong, wrong[1:], sizes)
@@ -75,7 +77,7 @@ def _least_below(strand):
 def _least_sound(strand):
     if strand.below is None:
         return None
-    return _least_above(strand.base, strand.slope, -1, strand.below)
+    return _least_above(strand.base, strand.slope, -2, strand.below)
 
 
 def _least_above(base, rise, floor, first):

@@ -228,6 +228,18 @@ class GreatestTest(ProgramTest):
             self.check(claims, 1, random.Random(10))
             self.check(claims, wanted[1] + 1, random.Random(11))
 
+    def test_shares_that_rise_and_fall_and_rise(self):
+        claims = Claims(Plan.read("- -1 --. 00-. ..-1. ..01.."), 11, (2, 0))
+        for from_size in (1, 20, 300):
+            self.check(claims, from_size, random.Random(12))
+            share = greatest_share(claims, from_size=from_size)[0]
+            self.assertTrue(all(worst(claims, size)[0] <= share for size in range(max(5, from_size), 700)))
+
+    def test_default_of_from_size(self):
+        claims = Claims(Plan.fixed(1, 0), 1, (1, -2))
+        self.assert_same((greatest_share(claims), greatest_share(claims, from_size=2)), ((Ratio(1), 1, 0), (Ratio(1, 2), 2, 1)))
+        self.assert_same((near_greatest(claims, LITTLE), near_greatest(claims, LITTLE, from_size=2)), ((1, 0), (2, 1)))
+
     def test_errors(self):
         for wrong in NO_INTEGERS + (Plan.fixed(2, 0), Claims):
             self.assert_error(NotClaims, {"value": wrong}, greatest_share, wrong, from_size=0)

@@ -146,6 +146,25 @@ class SizesTest(ProgramTest):
         for claims in random_claims(10, 25, 4, (1, 2, 3, 24), 1000):
             self.check(claims, Ratio(1, 3), 1, 40)
 
+    def test_bounds_that_cross_the_sizes(self):
+        # At first the bounds are not below the sizes, or they are below 0.
+        one, two, three = Plan.fixed(1, 0), Plan.fixed(2, 1), Plan.fixed(3, 0, 2)
+        for claims in (
+            Claims(one, 3, (1, 17)), Claims(one, 5, (4, 12)), Claims(one, 3, (2, -11)), Claims(two, 7, (2, 30)),
+            Claims(two, 4, (3, -14)), Claims(two, 24, (1, 300)), Claims(three, 3, (1, -9), (2, 9)),
+            Claims(three, 6, (1, -40), (3, -20)), Claims(three, 2, (0, 11), (1, 13)),
+        ):
+            for share in SHARES:
+                for from_size in (1, 6):
+                    self.check(claims, share, from_size, 60)
+
+    def test_default_of_from_size(self):
+        # Only the table of one row without a mark makes these claims wrong too often.
+        claims = Claims(Plan.fixed(1, 0), 1, (1, -2))
+        self.assert_same(sizes_where(claims, Ratio(1, 2)).ranges, (((2, None),),))
+        self.assert_same((failing(claims, Ratio(1, 2)), holds_always(claims, Ratio(1, 2))), ((1, 0), False))
+        self.assert_same((failing(claims, Ratio(1, 2), from_size=2), holds_always(claims, Ratio(1, 2), from_size=2)), (None, True))
+
     def test_from_size_cuts_off(self):
         for claims in some_claims():
             whole = sizes_where(claims, Ratio(1, 5))

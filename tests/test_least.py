@@ -144,6 +144,10 @@ class SlopesTest(ProgramTest):
                         enough = class_suffices(PLAN, number, bottom, (other, 0), share, 1, list(range(3, 200)) + [10 ** 40])
                         self.assertTrue(enough == (other >= slope))
 
+    def test_default_of_the_offset(self):
+        plan = Plan.fixed(2, 1)
+        self.assert_same((least_slopes(plan, Ratio(9, 10), 3), least_slopes(plan, Ratio(9, 10), 3, offset=1)), ((2,), (1,)))
+
     def test_long_plans(self):
         for plan in (Plan.fixed(20, 1, 8, 15), Plan.looks((8, 0), (20, 3))):
             for from_size in (1, FAR):
@@ -207,6 +211,9 @@ class OffsetsTest(SlopesTest):
         self.assert_same((least_offsets(plan, FIFTH, 10, 6), least_offsets(plan, FIFTH, 10, 5)), ((-8,), (None,)))
         self.assert_same(least_offsets(plan, Ratio(0), 1, 1), (-2,))
         self.assert_same(least_offsets(plan, Ratio(9, 10), 24, 24, from_size=FAR), (-1000,))
+        self.assert_same((least_offsets(Plan.fixed(4, 2), Ratio(9, 10), 3, 1), least_offsets(Plan.fixed(4, 3), Ratio(9, 10), 3, 2)), ((2,), (1,)))
+        one = Plan.fixed(1, 0)
+        self.assert_same((least_offsets(one, Ratio(1, 2), 1, 1), least_offsets(one, Ratio(1, 2), 1, 1, from_size=2)), ((-1,), (-2,)))
         self.assert_same(least_offsets(from_size=1, slope=0, bottom=3, share=FIFTH, plan=PLAN), (None, None))
 
     def test_errors(self):
@@ -268,6 +275,17 @@ class LooksTest(ProgramTest):
         self.assert_same(least_look(from_size=1, allowed=0, offset=0, slope=1, bottom=2, share=FIFTH), 3)
         self.assert_same(least_look(FIFTH, 2, 2, allowed=19), 20)
         self.assert_same(least_look(FIFTH, 2, 2, offset=-1000, from_size=FAR), 1)
+
+    def test_defaults(self):
+        self.assert_same([least_look(Ratio(3, 4), 2, 1, allowed=1, offset=offset) for offset in (0, -1)], [2, 3])
+        self.assert_same((least_look(Ratio(3, 4), 2, 1, allowed=1), least_look(Ratio(9, 10), 2, 1, allowed=2)), (2, 4))
+        self.assert_same(least_look(Ratio(9, 10), 2, 1, allowed=2, offset=1), 3)
+        self.assert_same((least_look(Ratio(0), 1, 1), least_look(Ratio(0), 1, 1, allowed=1)), (1, 2))
+        self.assert_same((least_look(Ratio(1, 2), 1, 1, offset=-2), least_look(Ratio(1, 2), 1, 1, offset=-2, from_size=2)), (2, 1))
+        nine, two, three = Ratio(9, 10), (2, 1), ((1, 0), (3, 1))
+        self.assert_same((next_look(nine, 3, 1, two), next_look(nine, 3, 1, two, offset=-1)), (3, 19))
+        self.assert_same((next_look(nine, 4, 1, *three), next_look(nine, 4, 1, *three, offset=1)), (8, 4))
+        self.assert_same((next_look(Ratio(1, 4), 2, 1, (2, 0)), next_look(Ratio(1, 4), 2, 1, (2, 0), allowed=1)), (3, None))
 
     def test_told_looks(self):
         self.assert_same(next_look(Ratio(1, 3), 2, 1, (2, 0), allowed=1), 5)

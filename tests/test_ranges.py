@@ -154,3 +154,8 @@ class MostShareTest(ProgramTest):
             self.assert_error(InvalidSize, {"value": wrong}, TWO.most_share, from_size=wrong)
         with self.assertRaises(TypeError):
             TWO.most_share(3)
+
+    def test_default_of_from_size(self):
+        one = Plan.fixed(1, 0)
+        two = TwoSided(Claims(one, 1, (1, -2)), Claims(one.flipped(), 1, (1, 0)))
+        self.assert_same((two.most_share(), two.most_share(from_size=2)), (Ratio(1), Ratio(1, 2)))
