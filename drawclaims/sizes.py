@@ -42,33 +42,34 @@ class Sizes:
     def after(self, first):
         """The least member from this integer on, None if there is none."""
         _check_from_zero(first)
-        found = [place for place in self._nexts(first) if place is not None]
-        return min([int(place) for place in found], default=None)
+        return min([int(place) for place in self._nexts(first)], default=None)
 
     def members(self, first, many):
         """Yields the members from this integer on, ascending, at most so many."""
         _check_from_zero(first)
         if not is_integer_within(many, 0, _MOST_MEMBERS):
             raise InvalidNumber(many)
-        start = self.after(first)
-        while many > 0 and start is not None:
-            stop = start + self.modulus
-            found = [place for place in self._nexts(start) if place is not None and place < stop]
-            for member in sorted([int(place) for place in found])[:many]:
+        nexts = self._nexts(first)
+        while many > 0 and nexts:
+            # From the least one on, so many integers have each rest once.
+            stop = min([int(place) for place in nexts]) + self.modulus
+            found = sorted([int(place) for place in nexts if place < stop])
+            for member in found[:many]:
                 yield member
             many -= len(found)
-            start = self.after(stop)
+            nexts = self._nexts(stop)
 
     def turns_with(self, modulus, rest):
         """The turns of the members with a rest by a multiple of the modulus."""
         return turns_at(self._turns[rest % self.modulus], modulus, rest)
 
     def _nexts(self, first):
-        """For each rest that has members, the least one of them from this integer on, or None."""
-        return [
+        """For each rest that has members from this integer on, the least one of them."""
+        found = [
             member_from(places, first + (rest - first) % self.modulus)
             for rest, places in enumerate(self._turns) if places
         ]
+        return [place for place in found if place is not None]
 
     def __and__(self, other):
         if not isinstance(other, Sizes):

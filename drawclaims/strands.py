@@ -56,7 +56,7 @@ class Strand:
         longest = self.plan.longest
         many = min(int(longest), self.bottom)
         wrong = [self.wrong_of(place) for place in range(t, t + longest + many)]
-        sizes = [self.size_of(place) for place in range(t, t + longest + many - 1)]
+        sizes = [self.size_of(place) for place in range(t, t + longest + many)]
         return [
             after * fallings(size - longest + many, many)[-1] - before * fallings(size + self.bottom, many)[-1]
             for before, after, size in zip(wrong, wrong[1:], sizes)

@@ -200,6 +200,26 @@ class File:
                 self.fault("L2", node)
 
 
+def names_in_classes(text):
+    """For each class of a file its plain methods, its attributes, and the methods that are more than plain."""
+    found = {}
+    for node in ast.walk(ast.parse(text)):
+        if isinstance(node, ast.ClassDef):
+            methods = [row for row in node.body if isinstance(row, ast.FunctionDef) and not row.name.startswith("__")]
+            special = {row.name for row in methods if row.decorator_list or yields(row)}
+            attributes = {
+                below.attr for below in ast.walk(node)
+                if isinstance(below, ast.Attribute) and isinstance(below.ctx, ast.Store) and ast.unparse(below.value) == "self"
+            }
+            assigned = {ast.unparse(made).partition(".")[0] for row in methods for made in row.decorator_list if "." in ast.unparse(made)}
+            found[node.name] = ({row.name for row in methods} - special, attributes - assigned, special)
+    return found
+
+
+def yields(function):
+    return any(isinstance(below, ast.Yield) for below in ast.walk(function))
+
+
 def methods_in(text):
     """The names of the methods of the classes in a file."""
     return {

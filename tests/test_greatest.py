@@ -193,6 +193,10 @@ class GreatestTest(ProgramTest):
             (Claims(Plan.fixed(2, 1), 1, (1, -2)), (Ratio(1), 2, 1)),
             (Claims(Plan.fixed(2, 0), 10, (6, -8)), (Ratio(1, 5), 6, 3)),
             (Claims(Plan.fixed(2, 0, 1), 5, (1, 0), (3, 0)), (Ratio(2, 3), 3, 2)),
+            # Here the share falls first and rises later.
+            (Claims(Plan.fixed(2, 1), 4, (1, 1)), (Ratio(1), 2, 1)),
+            (Claims(Plan.read("- 0- .01"), 7, (2, 1)), (Ratio(1), 2, 1)),
+            (Claims(Plan.read("- -- 01- ..-2 ..--. ..-12. ..11..."), 4, (1, 0), (2, 0)), (Ratio(6, 7), 7, 4)),
         ):
             self.assert_same(greatest_share(claims), wanted)
         self.assert_same(greatest_share(HALF, from_size=10), (Ratio(1, 4), None, None))

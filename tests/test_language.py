@@ -2,7 +2,7 @@ import ast
 import unittest
 from pathlib import Path
 
-from tests.language import File, methods_in
+from tests.language import File, methods_in, names_in_classes
 
 FOLDER = Path(__file__).parent.parent / "drawclaims"
 TEXTS = {path.name: path.read_text("utf-8") for path in sorted(FOLDER.glob("*.py"))}
@@ -42,6 +42,17 @@ class LanguageTest(unittest.TestCase):
             self.assertTrue(free, sorted(left))
             for name in free:
                 del left[name]
+
+    def test_names_of_methods_and_attributes(self):
+        classes = [(name, names) for text in TEXTS.values() for name, names in names_in_classes(text).items()]
+        self.assertGreater(len(classes), 30)
+        for name, (plain, attributes, special) in classes:
+            self.assertEqual(plain & attributes, set(), name)
+            for other, (_, more, _) in classes:
+                # A name of a static or class method, a generator or a property has no other meaning anywhere.
+                self.assertEqual(special & more, set(), (name, other))
+        every = {name for _, (plain, _, _) in classes for name in plain}
+        self.assertEqual(every & {name for _, (_, _, special) in classes for name in special}, set())
 
     def test_faults_are_seen(self):
         for row in (
