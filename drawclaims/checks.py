@@ -1,12 +1,11 @@
 """Checks of arguments that many functions have."""
 
-from drawclaims.errors import InvalidMarked, InvalidNumber, InvalidShare, InvalidSize, NotAPlan
-from drawclaims.kinds import is_integer_within
-from drawclaims.limits import BOTTOM, FROM, SIZE
+from drawclaims.errors import InvalidKeys, InvalidMarked, InvalidName, InvalidNumber, InvalidShare, InvalidSize
+from drawclaims.errors import NotAPlan
+from drawclaims.kinds import is_integer_within, is_key, is_name
+from drawclaims.limits import BOTTOM, FROM, OFFSET, SIZE
 from drawclaims.plans import Plan
 from drawclaims.ratios import is_share
-
-_MOST_KEY = 10 ** 9
 
 
 def check_plan(plan):
@@ -51,13 +50,34 @@ def check_bottom(bottom):
         raise InvalidNumber(bottom)
 
 
+def check_offset_up(offset):
+    """Raises InvalidNumber if a value is not an offset from 0 on."""
+    if not is_integer_within(offset, 0, OFFSET):
+        raise InvalidNumber(offset)
+
+
 def check_key(key):
     """Raises InvalidNumber if a value is not a key."""
-    if not is_integer_within(key, 0, _MOST_KEY):
+    if not is_key(key):
         raise InvalidNumber(key)
+
+
+def check_keys(keys):
+    """Raises InvalidKeys if a value is not a tuple of keys; they need not differ."""
+    if not isinstance(keys, tuple):
+        raise InvalidKeys(None)
+    for at, key in enumerate(keys):
+        if not is_key(key):
+            raise InvalidKeys(at)
 
 
 def check_mark(marked):
     """Raises InvalidMarked if a value is not True or False."""
     if not isinstance(marked, bool):
         raise InvalidMarked(marked)
+
+
+def check_name(name):
+    """Raises InvalidName if a value is not a name."""
+    if not is_name(name):
+        raise InvalidName(name)

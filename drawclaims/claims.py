@@ -1,9 +1,9 @@
 """Claims: a plan, and for each class a bound for the marked rows that depends on the size of the table."""
 
-from drawclaims.checks import check_bottom, check_number, check_plan, check_size
+from drawclaims.checks import check_bottom, check_name, check_number, check_plan, check_size
 from drawclaims.counting import class_counts, draws
-from drawclaims.errors import InvalidLines, InvalidName, NotClaims
-from drawclaims.kinds import is_integer_within, is_name
+from drawclaims.errors import InvalidLines, NotClaims
+from drawclaims.kinds import is_integer_within
 from drawclaims.limits import OFFSET
 from drawclaims.lines import Line
 from drawclaims.ratios import Ratio
@@ -29,8 +29,7 @@ class Claims:
     def line(self, number, name):
         """The Line with this name for the size whose value, rounded down, is the bound of a class."""
         check_number(self.plan, number)
-        if not is_name(name):
-            raise InvalidName(name)
+        check_name(name)
         if number == self.plan.classes - 1:
             whole = {name: 1}
             return Line(0, **whole)

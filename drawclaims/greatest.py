@@ -57,6 +57,14 @@ def near_greatest(claims, gap, *, from_size=1):
             return strand.size_of(t), strand.bound_of(t) + 1
 
 
+def sum_of_greatest(parts, from_size):
+    """The sum of the greatest shares of several claims, 1 if it is greater."""
+    total = Ratio(0)
+    for claims in parts:
+        total = total + greatest_share(claims, from_size=from_size)[0]
+    return total if total <= 1 else Ratio(1)
+
+
 def _powers(base, most):
     values = [1]
     for power in range(most):

@@ -1,6 +1,7 @@
 """What kind of value a value is."""
 
 _LONGEST_NAME = 8
+_MOST_KEY = 10 ** 9
 
 
 def is_integer(value):
@@ -11,6 +12,11 @@ def is_integer(value):
 def is_integer_within(value, least, most):
     """Whether a value is an integer from the least to the most one."""
     return is_integer(value) and least <= value <= most
+
+
+def is_key(value):
+    """Whether a value is a key: an integer from 0 to 10 ** 9."""
+    return is_integer_within(value, 0, _MOST_KEY)
 
 
 def first_not_ascending(items, least, most):
@@ -34,3 +40,8 @@ def is_whole_text(text):
     if not (text.isascii() and text.isdigit()):
         return False
     return text == "0" or not text.startswith("0")
+
+
+def is_integer_text(text):
+    """Whether a text is an integer in decimal digits without leading zeros, with a minus sign if it is less than 0."""
+    return text != "-0" and is_whole_text(text.removeprefix("-"))

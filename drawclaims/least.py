@@ -1,6 +1,6 @@
 """The least bounds, slopes, offsets and numbers of rows that suffice for a share."""
 
-from drawclaims.checks import check_bottom, check_from_size, check_plan, check_share, check_size
+from drawclaims.checks import check_bottom, check_from_size, check_offset_up, check_plan, check_share, check_size
 from drawclaims.counting import count_up_to, draws
 from drawclaims.errors import InvalidNumber
 from drawclaims.holding import class_holds, first_size
@@ -23,7 +23,7 @@ def least_slopes(plan, share, bottom, *, offset=0, from_size=1):
     check_plan(plan)
     check_share(share)
     check_bottom(bottom)
-    _check_within(offset, 0, OFFSET)
+    check_offset_up(offset)
     check_from_size(from_size)
     start = first_size(plan, from_size)
     return tuple([least_slope(plan, number, share, bottom, offset, start) for number in range(plan.classes - 1)])

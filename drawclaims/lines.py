@@ -1,7 +1,8 @@
 """Sums of an offset and of slopes times the sizes of tables."""
 
-from drawclaims.errors import InvalidName, InvalidNumber, InvalidRatio, UnknownName
-from drawclaims.kinds import is_integer, is_name
+from drawclaims.checks import check_name
+from drawclaims.errors import InvalidNumber, InvalidRatio, UnknownName
+from drawclaims.kinds import is_integer
 from drawclaims.ratios import Ratio, as_ratio, is_number
 
 
@@ -13,8 +14,7 @@ class Line:
             raise InvalidRatio(the_offset)
         given = sorted([str(word) for word in slopes])
         for name in given:
-            if not is_name(name):
-                raise InvalidName(name)
+            check_name(name)
             if not is_number(slopes[name]):
                 raise InvalidRatio(slopes[name])
         self.offset = as_ratio(the_offset)
@@ -23,15 +23,13 @@ class Line:
 
     def slope_of(self, name):
         """The slope of this name, 0 for a name that the line does not have."""
-        if not is_name(name):
-            raise InvalidName(name)
+        check_name(name)
         return self._slopes[name] if name in self._slopes else Ratio(0)
 
     def at(self, **sizes):
         """The value for these sizes."""
         for name in sorted([str(word) for word in sizes]):
-            if not is_name(name):
-                raise InvalidName(name)
+            check_name(name)
             if not is_integer(sizes[name]) or sizes[name] < 0:
                 raise InvalidNumber(sizes[name])
         value = self.offset

@@ -4,7 +4,7 @@ from drawclaims.checks import check_marked, check_number, check_size
 from drawclaims.claims import check_claims
 from drawclaims.counting import class_counts, draws
 from drawclaims.errors import InvalidSize, NotFlipped
-from drawclaims.greatest import greatest_share
+from drawclaims.greatest import sum_of_greatest
 from drawclaims.kinds import is_integer_within
 from drawclaims.ratios import Ratio
 
@@ -45,10 +45,7 @@ class TwoSided:
 
     def most_share(self, *, from_size=1):
         """The sum of the greatest shares of both claims, 1 if it is greater."""
-        above = greatest_share(self.at_most, from_size=from_size)[0]
-        below = greatest_share(self.at_least, from_size=from_size)[0]
-        total = above + below
-        return total if total <= 1 else Ratio(1)
+        return sum_of_greatest((self.at_most, self.at_least), from_size)
 
     def _wrong(self, size, marked):
         """The number of the draws whose interval does not have the number of marked rows."""

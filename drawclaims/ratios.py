@@ -3,7 +3,7 @@
 from math import gcd
 
 from drawclaims.errors import InvalidNumber, InvalidText
-from drawclaims.kinds import is_integer, is_whole_text
+from drawclaims.kinds import is_integer, is_integer_text, is_whole_text
 
 _SHARE_BOTTOM = 10 ** 9
 
@@ -139,9 +139,8 @@ def _lead(ratio, number):
 
 def _is_ratio_text(text):
     top, slash, bottom = text.partition("/")
-    digits = top.removeprefix("-")
-    if not is_whole_text(digits) or top == "-0":
+    if not is_integer_text(top):
         return False
     if not slash:
         return True
-    return is_whole_text(bottom) and int(bottom) > 1 and gcd(int(digits), int(bottom)) == 1
+    return is_whole_text(bottom) and int(bottom) > 1 and gcd(int(top), int(bottom)) == 1
