@@ -78,6 +78,12 @@ def class_holds(plan, number, bottom, line, share, start):
     return True
 
 
+def class_failing(plan, number, bottom, line, share, start):
+    """The least size from the start on at which a class is wrong for more of the draws, None if there is none."""
+    held = Sizes(bottom, [_turns_of(strand, share) for strand in strands_of(plan, number, bottom, line, start)])
+    return (Sizes.span(start) - held).after(start)
+
+
 def _turns_of(strand, share):
     """The turns of the sizes at which the class of the strand is wrong for at most this share of the draws."""
     places = [strand.first]

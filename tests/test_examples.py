@@ -131,6 +131,94 @@ raises NotRising(marks=(1, 0), place=1)
 [[9, 7], (0, 2), (1, 2), 3, ((9, True),), (1, 2), 4, 2]
 """,
     ),
+    "carrying": (
+        """
+>>> from drawclaims.carrying import Carry
+>>> carry = Carry(1, 4, 5, 6)
+>>> carry.learn(4, False)
+>>> carry.drop(5)
+>>> carry.put(9)
+>>> before = (carry.size, carry.least_now, carry.most_now)
+>>> carry.change(6, True)
+>>> [before, (carry.least_now, carry.most_now), carry.refuted]
+[(3, 0, 2), (1, 2), False]
+""",
+    ),
+    "samples": (
+        """
+>>> from drawclaims.ratios import Ratio
+>>> from drawclaims.samples import Book, Sample
+>>> both = Sample((1, True), (2, False)) | Sample((2, False), (5, True))
+>>> book = Book(Ratio(1, 4), 2, 2)
+>>> [both.size, both.marked, 5 in both, book.slopes, book.bound(Sample((1, False), (2, False)), 9), book.bound(Sample((1, True)), 9)]
+[3, 2, True, ((2,), (1, 2)), 4, 9]
+""",
+    ),
+    "layers": (
+        """
+>>> from drawclaims.claims import Claims
+>>> from drawclaims.layers import Layers, partners
+>>> from drawclaims.plans import Plan
+>>> half = Claims(Plan.fixed(2, 0), 2, (1, 0))
+>>> layers = Layers(half, half)
+>>> [partners((3, 4, 3), (3, 3, 5)), str(layers((0, 1))), str(layers((0, 0, 9))), str(layers.most_share())]
+[(2, 0, 2), '3/2 rows', '1 rows', '1/2']
+""",
+    ),
+    "surveys": (
+        """
+>>> from drawclaims.claims import Claims
+>>> from drawclaims.plans import Plan
+>>> from drawclaims.surveys import Survey
+>>> half = Claims(Plan.fixed(2, 0), 2, (1, 0))
+>>> survey = Survey(a=half, b=half)
+>>> [str(survey.greatest()), str(survey.line(a=0, b=1)), str(survey.wrong_share(a=(7, 4), b=(5, 3)))]
+['7/16', '1/2 a + 1 b', '8/35']
+""",
+    ),
+    "desks": (
+        """
+>>> from drawclaims.claims import Claims
+>>> from drawclaims.desks import Desk
+>>> from drawclaims.plans import Plan
+>>> from drawclaims.ratios import Ratio
+>>> half = Claims(Plan.fixed(2, 0), 2, (1, 0))
+>>> desk = Desk(Ratio(1, 2))
+>>> shares = desk.do_all(("put", "a", half), ("put", "b", half), ("limit", Ratio(7, 16)))
+>>> desk.undo()
+>>> [repr(shares), str(desk.limit), str(desk.drop("a")), len(desk.history), desk.names]
+['(Ratio(1, 4), Ratio(7, 16), Ratio(7, 16))', '1/2', '1/4', 3, ('b',)]
+""",
+        """
+>>> from drawclaims.claims import Claims
+>>> from drawclaims.desks import Desk
+>>> from drawclaims.plans import Plan
+>>> from drawclaims.ratios import Ratio
+>>> Desk(Ratio(1, 5)).put("a", Claims(Plan.fixed(2, 0), 2, (1, 0)))
+raises NotHeld
+""",
+    ),
+    "certificates": (
+        """
+>>> from drawclaims.certificates import certify_comparison, certify_holding
+>>> from drawclaims.checker import accepts
+>>> from drawclaims.claims import Claims
+>>> from drawclaims.plans import Plan
+>>> from drawclaims.ratios import Ratio
+>>> half = Claims(Plan.fixed(2, 0), 2, (1, 0))
+>>> claim, certificate = certify_holding(half, Ratio(1, 4))
+>>> [claim[:2], certificate, accepts(claim, certificate), certify_holding(half, Ratio(1, 5))[0][5:], certify_comparison(Plan.fixed(2, 0), Plan.fixed(2, 1))[1]]
+[('always', ('-', '--', '011')), (((((0, 1),), ((0, 1),)), (((0, 1),), ((0, 1),))),), True, (17, 9), (0, 1)]
+""",
+    ),
+    "console": (
+        """
+>>> from drawclaims.console import Console
+>>> console = Console()
+>>> [console.say("use 2 1 0; - -- 011"), console.say("count 5 2"), console.say("worst 7"), console.say("where 1/5"), console.say("greatest"), console.say("bounds 1/5 10")]
+['ok', '6 14', '1/7 4', '2-24; 3-15', '1/4 not reached', '5']
+""",
+    ),
 }
 
 
@@ -145,4 +233,5 @@ class ExamplesTest(unittest.TestCase):
     def test_number_of_examples(self):
         self.assertEqual({module: len(texts) for module, texts in EXAMPLES.items()},
                          {"ratios": 1, "lines": 1, "plans": 3, "comparing": 1, "counting": 1,
-                          "series": 1, "sizes": 1, "holding": 1, "greatest": 1, "least": 1, "ranges": 1, "tables": 1})
+                          "series": 1, "sizes": 1, "holding": 1, "greatest": 1, "least": 1, "ranges": 1, "tables": 1,
+                          "carrying": 1, "samples": 1, "layers": 1, "surveys": 1, "desks": 2, "certificates": 1, "console": 1})

@@ -43,6 +43,20 @@ class LanguageTest(unittest.TestCase):
             for name in free:
                 del left[name]
 
+    def test_the_checker_shares_only_limits_and_errors(self):
+        own, left = set(), ["checker.py"]
+        while left:
+            name = left.pop()
+            own.add(name)
+            left += [other for other, _ in imports_of(name) if other not in own | {"limits.py", "errors.py"}]
+        self.assertGreater(len(own), 2)
+        for name in set(FILES) - own:
+            self.assertEqual([other for other, _ in imports_of(name) if other in own], [], name)
+        # Nothing of the library either, so all that the checker relies on can be read there.
+        for name in own:
+            modules = [node.module for node in FILES[name].tree.body if isinstance(node, ast.ImportFrom)]
+            self.assertTrue(all(module.startswith("drawclaims.") for module in modules), name)
+
     def test_names_of_methods_and_attributes(self):
         classes = [(name, names) for text in TEXTS.values() for name, names in names_in_classes(text).items()]
         self.assertGreater(len(classes), 30)
